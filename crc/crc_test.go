@@ -335,12 +335,78 @@ func TestThreeTextsTogether(t *testing.T) {
 	}
 }
 
+// The table of the bytes' steps: known words of it.
+func TestStepOfKnownBytes(t *testing.T) {
+	for _, x := range []struct {
+		b    byte
+		step uint32
+	}{
+		{0, 0},
+		{1, 0x77073096},
+		{2, 0xEE0E612C},
+		{16, 0x1DB71064},
+		{127, 0xC0BA6CAD},
+		{128, 0xEDB88320},
+		{254, 0x5A05DF1B},
+		{255, 0x2D02EF8D},
+	} {
+		if got := Step(x.b); got != x.step {
+			t.Errorf("Step(%02X): %08X, not %08X", x.b, got, x.step)
+		}
+	}
+}
+
+// The table of the bytes' steps: each byte's are those of the chapter, of a register that is 0.
+func TestStepOfEachByte(t *testing.T) {
+	for i := range 256 {
+		want := plain(0, string([]byte{byte(i)}))
+		if got := Step(byte(i)); got != want {
+			t.Errorf("Step(%02X): %08X, not %08X", i, got, want)
+		}
+		if want != crc32.IEEETable[i] {
+			t.Errorf("the chapter's steps of %02X: %08X, which is not IEEE 802.3's", i, want)
+		}
+	}
+}
+
+// The table of the bytes' steps leads to the sums that P3.1 tells: a look in it is a byte's eight steps.
+func TestStepsLeadToTheSums(t *testing.T) {
+	for _, b := range someTexts() {
+		register := uint32(0xFFFFFFFF)
+		for i := range len(b) {
+			register = register>>8 ^ Step(byte(register)^b[i])
+		}
+		if got := Sum(b); got != ^register {
+			t.Errorf("Sum(% x): %08X, and by the table %08X", b, got, ^register)
+		}
+	}
+}
+
+// The calls work their answers out by a function: P3.1 and P3.2 hold whatever stands in the table.
+func TestSumsDoNotHangOnTheTable(t *testing.T) {
+	laid := steps
+	defer func() { steps = laid }()
+	steps = [256]uint32{}
+	if got := Sum("123456789"); got != 0xCBF43926 {
+		t.Errorf("Sum without the table: %08X", got)
+	}
+	if got := More(0xE8B7BE43, "bc"); got != 0x352441C2 {
+		t.Errorf("More without the table: %08X", got)
+	}
+	if got, ok := Get(Put(0xCBF43926)); got != 0xCBF43926 || !ok {
+		t.Errorf("Get(Put) without the table: %08X, %t", got, ok)
+	}
+	if got := Step(1); got != 0 {
+		t.Errorf("Step(1) without the table: %08X: it isn't read there", got)
+	}
+}
+
 // The table of the start-up isn't changed by what is asked: the same question has the same answer.
 func TestSameAgain(t *testing.T) {
 	first := steps
 	for range 2 {
-		if Sum("123456789") != 0xCBF43926 || More(0xE8B7BE43, "bc") != 0x352441C2 {
-			t.Error("another sum")
+		if Sum("123456789") != 0xCBF43926 || More(0xE8B7BE43, "bc") != 0x352441C2 || Step(255) != 0x2D02EF8D {
+			t.Error("another answer")
 		}
 	}
 	if steps != first || steps != laySteps() {
